@@ -1,6 +1,7 @@
 """Breaches of the limits: which there are, when a buying is let, and what is noted."""
 
 from fundrings.reckoning import Reckoning
+from fundrings.reckoning import issuers_in
 from fundrings.state import GROUPS
 from fundrings.state import ISSUERS
 from fundrings.state import MILLION
@@ -26,7 +27,7 @@ def breach_measures(reckoning, groups, fund, i):
     if is_more(large, fund.together, worth):
         measures[(ALL_LARGE, 0)] = large
     for group in range(GROUPS):
-        grouped = sum([exposures[issuer] for issuer in range(ISSUERS) if groups[issuer] == group])
+        grouped = sum([exposures[issuer] for issuer in issuers_in(groups, group)])
         if is_more(grouped, fund.group, worth):
             measures[(ONE_GROUP, group)] = grouped
     return measures

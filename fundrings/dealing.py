@@ -1,4 +1,4 @@
-"""The calls by which pieces, units and coins change hands: buy, sell, subscribe, redeem, issue."""
+"""The calls by which pieces, units and coins change hands: buy, sell, subscribe, redeem, issue, cancel."""
 
 from fundrings.breaches import is_let
 from fundrings.breaches import note_breaches
@@ -142,3 +142,22 @@ def issue(house, j, money):
     house.funds[j].cash += bought[1]
     note_breaches(house)
     return bought
+
+
+def cancel(house, j, units):
+    if j not in house.funds:
+        return [NOT_THERE]
+    if not within(units, 1, MOST_UNITS):
+        return [OUT_OF_RANGE]
+    if house.funds[j].outside < units:
+        return [TOO_FEW]
+    paid = paid_for(house, j, units)
+    if house.funds[j].cash < paid:
+        return [NO_CASH]
+    funds = copied_funds(house.funds)
+    funds[j].cash -= paid
+    funds[j].outside -= units
+    if not is_sound(funds):
+        return [OWNED_WHOLLY]
+    settle(house, funds)
+    return [paid]

@@ -28,6 +28,10 @@ def worth_by_issuer(things, fund):
     return sums
 
 
+def issuers_in(groups, group):
+    return [issuer for issuer in range(ISSUERS) if groups[issuer] == group]
+
+
 class Reckoning:
     """Of one unit of each fund: its parts of what the funds have themselves.
 

@@ -1,9 +1,10 @@
-"""The calls that tell the house what is there: clear, thing, price, issuer, fund, limits."""
+"""The calls that tell the house what is there: clear, thing, price, issuer, fund, limits, tick."""
 
 from fundrings.breaches import note_breaches
 from fundrings.refusals import NOT_THERE
 from fundrings.refusals import OUT_OF_RANGE
 from fundrings.refusals import THERE_ALREADY
+from fundrings.refusals import TOO_MANY
 from fundrings.refusals import within
 from fundrings.state import FUNDS
 from fundrings.state import GROUPS
@@ -16,6 +17,8 @@ from fundrings.state import Thing
 MOST_PRICE = 1000000
 MOST_OUTSIDE = 1000000
 MOST_CASH = 1000000000
+MOST_DAYS = 1000
+LAST_DAY = 1000000
 
 
 def clear_house(house):
@@ -74,3 +77,12 @@ def set_limits(house, i, limits):
     fund.group = limits[3]
     note_breaches(house)
     return [0]
+
+
+def tick(house, n):
+    if not within(n, 1, MOST_DAYS):
+        return [OUT_OF_RANGE]
+    if house.day + n > LAST_DAY:
+        return [TOO_MANY]
+    house.day += n
+    return [house.day]

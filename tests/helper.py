@@ -7,6 +7,9 @@ from fractions import Fraction
 from fundrings.house import answers
 
 MILLION = 1000000
+NAMES = """clear thing price issuer fund limits buy sell subscribe redeem issue cancel tick value rounds through exposure
+group breaches holding fundat sums""".split()
+NOTING = "price issuer limits buy sell subscribe redeem issue cancel".split()
 
 
 def clear():
@@ -53,6 +56,50 @@ def issue(j, money):
     return [10, j, money]
 
 
+def cancel(j, units):
+    return [11, j, units]
+
+
+def tick(n):
+    return [12, n]
+
+
+def value(i):
+    return [13, i]
+
+
+def rounds(n):
+    return [14, n]
+
+
+def through(i, j):
+    return [15, i, j]
+
+
+def exposure(i, number):
+    return [16, i, number]
+
+
+def group(i, which):
+    return [17, i, which]
+
+
+def breaches(i):
+    return [18, i]
+
+
+def holding(i):
+    return [19, i]
+
+
+def fundat(i):
+    return [20, i]
+
+
+def sums():
+    return [21]
+
+
 def split(told):
     """The answers call by call, from how many numbers each has before it."""
     parts = []
@@ -76,18 +123,22 @@ def last(calls):
     return ask(calls)[-1]
 
 
-def probes():
-    """Calls whose answers tell what is there: existence, prices, groups, W, units, pieces, cash below 2^20."""
-    told = [issuer(number, 0) for number in range(8)]
-    told += [issue(j, money) for j in range(6) for money in (10007, 999999937)]
-    told += [redeem(i, j, 1) for i in range(6) for j in range(6) if i != j]
-    told += [sell(i, k, 1) for i in range(6) for k in range(12)]
-    told += [buy(i, k, 1) for i in range(6) for k in range(12)]
-    told += [thing(11, 0, 1), price(11, 1)]
-    told += [buy(i, 11, 1 << bit) for i in range(6) for bit in range(19, -1, -1)]
-    told += [limits(i) for i in range(6)] + [price(k, 3) for k in range(12)]
-    told += [fund(i, 1, 1) for i in range(6)] + [thing(k, 0, 0) for k in range(12)]
+def looked():
+    """Calls that change nothing and tell of every fund, of what is noted and of the day."""
+    told = [sums(), rounds(3)]
+    for i in range(6):
+        told += [value(i), breaches(i), holding(i), fundat(i)] + [through(i, j) for j in range(6)]
+        told += [exposure(i, number) for number in range(8)] + [group(i, which) for which in range(4)]
     return told
+
+
+def probes():
+    """Calls whose answers tell all that is there; the later ones show prices, groups and the things' issuers."""
+    told = looked() + [issuer(number, 0) for number in range(8)]
+    told += [limits(i) for i in range(6)] + [fund(i, 10, 1000) for i in range(6)]
+    told += [price(k, k + 1) for k in range(12)]
+    told += [buy(i, k, 1) for i in range(6) for k in range(12)]
+    return told + [exposure(i, number) for i in range(6) for number in range(8)]
 
 
 class ModelFund:
@@ -106,6 +157,8 @@ class Model:
         self.funds = {}
         self.things = {}
         self.groups = {}
+        self.day = 0
+        self.noted = {}
 
     def units(self, j):
         return self.funds[j].outside + sum(f.held.get(j, 0) for f in self.funds.values())
@@ -140,9 +193,8 @@ class Model:
     def unit_worth(self, j):
         return self.worth(j) / self.units(j)
 
-    def breaches(self, i):
-        """(kind, which) to the measure by the worth."""
-        parts = self.part_rows()[i]
+    def breaches(self, i, parts):
+        """(kind, which) to the measure by the worth, from fund i's parts of what all have themselves."""
         worth = sum(parts[j] * self.itself(j) for j in self.funds)
         if worth == 0:
             return {}
@@ -166,17 +218,25 @@ class Model:
         return False
 
     def lets(self, before, i):
-        old = before.breaches(i)
-        return all(place in old and ratio <= old[place] for place, ratio in self.breaches(i).items())
+        old = before.breaches(i, before.part_rows()[i])
+        new = self.breaches(i, self.part_rows()[i])
+        return all(place in old and ratio <= old[place] for place, ratio in new.items())
+
+    def note(self):
+        parts = self.part_rows()
+        found = {(i,) + place for i in self.funds for place in self.breaches(i, parts[i])}
+        self.noted = {place: self.noted.get(place, self.day) for place in found}
 
     def answer(self, call):
         """What the call answers; what it changes is changed only if it isn't refused."""
         trial = copy.deepcopy(self)
-        name = "clear thing price issuer fund limits buy sell subscribe redeem issue".split()[call[0]]
+        name = NAMES[call[0]]
         told = getattr(trial, "do_" + name)(self, *call[1:])
         if isinstance(told, int):
             told = [told]
         if told[0] >= 0:
+            if name in NOTING:
+                trial.note()
             self.__dict__ = trial.__dict__
         return told
 
@@ -300,6 +360,87 @@ class Model:
         self.funds[j].outside += told[0]
         self.funds[j].cash += told[1]
         return -3 if self.units(j) > 10 ** 7 else told
+
+    def do_cancel(self, before, j, units):
+        if j not in self.funds:
+            return -2
+        if units not in range(1, 10 ** 7 + 1):
+            return -1
+        if self.funds[j].outside < units:
+            return -5
+        paid = int(units * self.unit_worth(j))
+        self.funds[j].cash -= paid
+        self.funds[j].outside -= units
+        if self.funds[j].cash < 0:
+            return -7
+        return -9 if self.owned_wholly() else paid
+
+    def do_tick(self, before, n):
+        if n not in range(1, 1001):
+            return -1
+        self.day += n
+        return self.day if self.day <= MILLION else -3
+
+    def do_value(self, before, i):
+        if i not in self.funds:
+            return -2
+        worth = self.worth(i)
+        each = worth / self.units(i)
+        return [int(worth), int(each * MILLION), self.itself(i), self.units(i), self.funds[i].outside]
+
+    def do_rounds(self, before, n):
+        if n not in range(61):
+            return -1
+        now = dict.fromkeys(range(6), 0)
+        for turn in range(n):
+            behind = dict.fromkeys(range(6), 0)
+            for i, holder in self.funds.items():
+                behind[i] = self.itself(i) + sum(units * now[j] // self.units(j) for j, units in holder.held.items())
+            now = behind
+        return [0] + [now[i] for i in range(6)]
+
+    def do_through(self, before, i, j):
+        if i not in self.funds or j not in self.funds:
+            return -2
+        return int(self.part_rows()[i][j] * MILLION)
+
+    def exposed(self, i, numbers):
+        parts = self.part_rows()[i]
+        coins = sum((parts[j] * self.issued(j, number) for j in self.funds for number in numbers), Fraction(0))
+        worth = self.worth(i)
+        return [int(coins), int(coins * MILLION / worth) if worth else 0]
+
+    def do_exposure(self, before, i, number):
+        if i not in self.funds:
+            return -2
+        return self.exposed(i, [number]) if number in range(8) else -1
+
+    def do_group(self, before, i, which):
+        if i not in self.funds:
+            return -2
+        numbers = [number for number in range(8) if self.groups.get(number, 0) == which]
+        return self.exposed(i, numbers) if which in range(4) else -1
+
+    def do_breaches(self, before, i):
+        if i not in self.funds:
+            return -2
+        told = sorted(place[1:] + (day,) for place, day in self.noted.items() if place[0] == i)
+        return [len(told)] + [number for row in told for number in row]
+
+    def do_holding(self, before, i):
+        if i not in self.funds:
+            return -2
+        fund_i = self.funds[i]
+        return [fund_i.pieces.get(k, 0) for k in range(12)] + [fund_i.held.get(j, 0) for j in range(6)]
+
+    def do_fundat(self, before, i):
+        if i not in self.funds:
+            return -2
+        return [self.funds[i].outside, self.funds[i].cash] + self.funds[i].limits
+
+    def do_sums(self, before):
+        outside = sum((self.funds[j].outside * self.unit_worth(j) for j in self.funds), Fraction(0))
+        return [self.day, sum(self.itself(j) for j in self.funds), int(outside)]
 
 
 def model_answers(calls):

@@ -1,14 +1,18 @@
-"""What the calls so far can't bring about or show: funds without units outside, and what is noted.
+"""What no list of calls brings about or shows, on houses set up by hand.
 
-These tests set a house up by hand: nobody outside can give units back yet, so no list of calls reaches -9.
+- The day stays far below 1000000 in a list of 400 calls.
+- New units never make a sound house unsound, so no subscribe comes to -9.
+- No buying makes a breach's measure fall against the worth.
+- What is noted is always what is in breach, so a list can't show which calls note and which don't.
 """
 
 import itertools
 import unittest
 from unittest import mock
 
-from fundrings import breaches, dealing, settings
+from fundrings import breaches, dealing, house as way_in, settings
 from fundrings.state import Fund, House, Thing, copied_funds, is_sound
+from tests import helper
 
 
 def house_of(outside, held, cash=()):
@@ -24,6 +28,10 @@ def house_of(outside, held, cash=()):
 def shown(house):
     funds = {i: dict(vars(fund), pieces=list(fund.pieces), held=list(fund.held)) for i, fund in house.funds.items()}
     return funds, dict(house.noted), house.day, list(house.groups)
+
+
+def done(house, call):
+    return way_in.answer_call(house, call[0], call[1:])
 
 
 def owned_wholly(funds):
@@ -60,53 +68,8 @@ class OwnedWholly(unittest.TestCase):
         self.assertEqual(call(house, *given), [number])
         self.assertEqual(shown(house), before)
 
-    def test_redeem_leaves_no_units(self):
-        house = house_of([10, 0], {(0, 1): 5})
-        self.refused(house, dealing.redeem, (0, 1, 5), -9)
-        self.assertEqual(dealing.redeem(house, 0, 1, 4), [800])
-        self.refused(house, dealing.redeem, (0, 1, 1), -9)
-
-    def test_redeem_leaves_a_ring_of_two(self):
-        # Funds 1 and 2 hold one another; fund 0's units of 1, worth all its coins, are all that anybody else has.
-        house = house_of([10, 0, 0], {(0, 1): 5, (1, 2): 4, (2, 1): 5}, [0, 1000, 0])
-        self.refused(house, dealing.redeem, (0, 1, 5), -9)
-        self.assertEqual(dealing.redeem(house, 0, 1, 4), [800])
-        self.refused(house, dealing.redeem, (0, 1, 1), -9)
-
-    def test_redeem_leaves_a_ring_of_three(self):
-        house = house_of([10, 0, 0, 0], {(0, 2): 9, (1, 2): 4, (2, 3): 4, (3, 1): 4}, [0, 0, 900, 0])
-        self.refused(house, dealing.redeem, (0, 2, 9), -9)
-        self.assertEqual(dealing.redeem(house, 0, 2, 8), [800])
-
-    def test_redeem_of_worthless_units(self):
-        house = house_of([10, 0, 0], {(0, 1): 5, (1, 2): 4, (2, 1): 5}, [7, 0, 0])
-        self.refused(house, dealing.redeem, (0, 1, 5), -9)
-        self.assertEqual(dealing.redeem(house, 0, 1, 4), [0])
-
-    def test_redeem_in_a_ring_that_others_stand_behind(self):
-        # Fund 2 has a unit outside, so funds 1 and 2 may hold one another's others.
-        house = house_of([10, 0, 1], {(0, 1): 5, (1, 2): 3, (2, 1): 5}, [0, 1000, 0])
-        self.assertEqual(dealing.redeem(house, 0, 1, 5), [800])
-        # Fund 3 holds fund 1 too and is held outside itself.
-        house = house_of([10, 0, 0, 1], {(0, 1): 4, (3, 1): 1, (1, 2): 4, (2, 1): 5}, [0, 1000, 0, 0])
-        self.assertEqual(dealing.redeem(house, 0, 1, 4), [800])
-
-    def test_fewer_and_no_cash_before_owned_wholly(self):
-        house = house_of([10, 0], {(0, 1): 5})
-        self.refused(house, dealing.redeem, (0, 1, 6), -5)
-        house.things[0] = Thing(0, 1)
-        house.funds[1].cash = 999
-        house.funds[1].pieces[0] = 1
-        self.refused(house, dealing.redeem, (0, 1, 5), -7)
-
-    def test_subscribe_by_a_wholly_held_fund(self):
-        # Fund 1 is fund 0's alone. New units take nobody outside away, so each may buy the other's.
-        house = house_of([10, 0], {(0, 1): 5})
-        self.assertEqual(dealing.subscribe(house, 1, 0, 400), [2, 400])
-        self.assertEqual(dealing.subscribe(house, 0, 1, 400), [2, 400])
-
     def test_subscribe_asks_behind_too_many_and_ahead_of_not_let(self):
-        # No sound house gets unsound by new units, so the question itself is answered by hand.
+        # The question whether the house stays sound is itself answered by hand.
         house = house_of([100, 100], {}, [1000, 500])
         house.things[0] = Thing(0, 1)
         house.funds[1].pieces[0] = 500
@@ -121,8 +84,6 @@ class OwnedWholly(unittest.TestCase):
 
 
 class Let(unittest.TestCase):
-    """No buying makes a measure fall against the worth, so the funds behind it are told by hand."""
-
     def house(self):
         house = house_of([100], {})
         house.things[0] = Thing(0, 1)
@@ -145,115 +106,83 @@ class Let(unittest.TestCase):
                 self.assertEqual(breaches.is_let(house, funds, 0), let, (told, pieces))
 
 
-class Noted(unittest.TestCase):
-    def house(self):
-        house = House()
-        for k in range(3):
-            settings.add_thing(house, k, k, 1)
-        settings.add_fund(house, 0, 100, 1000)
-        settings.add_fund(house, 1, 100, 1000)
+class LastDay(unittest.TestCase):
+    def house(self, day):
+        house = house_of([10], {})
+        house.day = day
         return house
 
-    def test_nothing_at_first(self):
-        self.assertEqual(self.house().noted, {})
-        self.assertEqual(House().day, 0)
+    def test_just_1000000(self):
+        for day, n in ((999999, 1), (999998, 2), (999000, 1000)):
+            house = self.house(day)
+            self.assertEqual(done(house, helper.tick(n)), [1000000])
+            self.assertEqual(house.day, 1000000)
+            self.assertEqual(done(house, helper.sums()), [1000000, 1000, 1000])
 
-    def test_kinds_in_their_order_with_the_day(self):
-        house = self.house()
-        for call in ((1, 2, 100), (1, 0, 100), (0, 1, 100)):
-            dealing.buy(house, *call)
-        settings.set_group(house, 2, 3)
-        house.day = 4
-        settings.set_limits(house, 1, [0, 0, 0, 0])
-        self.assertEqual(list(house.noted.items()), [((1, 1, 0), 4), ((1, 1, 2), 4), ((1, 2, 0), 4), ((1, 3, 0), 4),
-                                                    ((1, 3, 3), 4)])
-        house.day = 6
-        settings.set_limits(house, 0, [1000000, 0, 1000000, 1000000])
-        self.assertEqual(list(house.noted.items())[0], ((0, 1, 1), 6))
-        self.assertEqual(house.noted[(1, 2, 0)], 4)
+    def test_one_beyond(self):
+        for day, n in ((1000000, 1), (999999, 2), (999001, 1000), (1000000, 1000)):
+            house = self.house(day)
+            before = shown(house)
+            self.assertEqual(done(house, helper.tick(n)), [-3])
+            self.assertEqual(shown(house), before)
 
-    def test_keeps_its_day_and_is_forgotten(self):
-        house = self.house()
-        settings.set_limits(house, 0, [1000000, 200000, 1000000, 1000000])
-        dealing.buy(house, 0, 0, 200)
-        self.assertEqual(house.noted, {})
-        house.day = 2
-        settings.set_price(house, 0, 2)
-        self.assertEqual(house.noted, {(0, 1, 0): 2})
-        house.day = 3
-        settings.set_price(house, 0, 3)
-        self.assertEqual(house.noted, {(0, 1, 0): 2})
-        settings.set_price(house, 0, 1)
-        self.assertEqual(house.noted, {})
-        house.day = 5
-        settings.set_price(house, 0, 2)
-        self.assertEqual(house.noted, {(0, 1, 0): 5})
+    def test_out_of_range_before_too_late(self):
+        for n in (0, -1, 1001, 10 ** 18, -10 ** 18):
+            house = self.house(1000000)
+            self.assertEqual(done(house, helper.tick(n)), [-1])
+            self.assertEqual(house.day, 1000000)
 
-    def test_behind_buy_and_sell(self):
-        house = self.house()
-        settings.set_limits(house, 0, [1000000, 1000000, 1000000, 300000])
-        dealing.buy(house, 0, 0, 300)
-        settings.set_limits(house, 0, [1000000, 299999, 1000000, 1000000])
-        self.assertEqual(list(house.noted), [(0, 1, 0)])
-        dealing.sell(house, 0, 0, 1)
-        self.assertEqual(house.noted, {})
+    def test_clear_begins_anew(self):
+        house = self.house(1000000)
+        self.assertEqual(done(house, helper.clear()), [0])
+        self.assertEqual(done(house, helper.tick(5)), [5])
 
-    def test_behind_subscribe_redeem_and_issue(self):
-        # Fund 1 has 200 of 1000 in issuer 0, then of 1500, then of 1000 again, then of 1500 again.
-        house = self.house()
-        dealing.buy(house, 1, 0, 200)
-        settings.set_limits(house, 1, [1000000, 150000, 1000000, 1000000])
-        self.assertEqual(house.noted, {(1, 1, 0): 0})
-        self.assertEqual(dealing.subscribe(house, 0, 1, 500), [50, 500])
-        self.assertEqual(house.noted, {})
-        house.day = 7
-        self.assertEqual(dealing.redeem(house, 0, 1, 50), [500])
-        self.assertEqual(house.noted, {(1, 1, 0): 7})
-        self.assertEqual(dealing.issue(house, 1, 500), [50, 500])
-        self.assertEqual(house.noted, {})
+    def test_a_breach_of_the_last_day(self):
+        house = self.house(1000000)
+        for call in (helper.thing(0, 0, 1), helper.buy(0, 0, 10), helper.limits(0, one=0)):
+            done(house, call)
+        self.assertEqual(done(house, helper.breaches(0)), [1, 1, 0, 1000000])
 
-    def test_behind_issuer(self):
-        house = self.house()
-        dealing.buy(house, 1, 0, 100)
-        dealing.buy(house, 1, 1, 50)
-        settings.set_limits(house, 1, [1000000, 1000000, 1000000, 100000])
-        self.assertEqual(house.noted, {(1, 3, 0): 0})
-        settings.set_group(house, 0, 2)
-        self.assertEqual(house.noted, {})
-        house.day = 3
-        settings.set_group(house, 1, 2)
-        self.assertEqual(house.noted, {(1, 3, 2): 3})
 
-    def test_others_bring_a_fund_into_breach(self):
-        # Fund 0 has half of fund 1 and may have a tenth in one issuer: it is in breach when fund 1 buys 201.
-        house = self.house()
-        settings.set_limits(house, 0, [1000000, 100000, 1000000, 1000000])
-        dealing.subscribe(house, 0, 1, 1000)
-        dealing.buy(house, 1, 0, 200)
-        self.assertEqual(house.noted, {})
-        house.day = 9
-        dealing.buy(house, 1, 0, 1)
-        self.assertEqual(house.noted, {(0, 1, 0): 9})
+class Noting(unittest.TestCase):
+    """Fund 0 is in breach, and nothing is noted of it yet, since its limit was set by hand."""
 
-    def test_a_refused_call_notes_nothing(self):
-        house = self.house()
-        dealing.buy(house, 0, 0, 300)
+    def house(self):
+        house = House()
+        for call in (helper.thing(0, 0, 1), helper.thing(1, 1, 1), helper.fund(0, 100, 1000), helper.fund(1, 100, 1000),
+                     helper.buy(0, 0, 300), helper.buy(1, 1, 10), helper.subscribe(1, 0, 100)):
+            self.assertGreaterEqual(done(house, call)[0], 0)
         house.funds[0].one = 0
-        for told in (settings.set_price(house, 9, 1), settings.set_price(house, 0, -1), settings.set_group(house, 8, 0),
-                     settings.set_limits(house, 0, [0, 0, 0, -1]), dealing.buy(house, 0, 0, 1),
-                     dealing.sell(house, 0, 0, 301), dealing.subscribe(house, 0, 1, 1), dealing.redeem(house, 0, 1, 1),
-                     dealing.issue(house, 0, 1)):
-            self.assertLess(told[0], 0)
-            self.assertEqual(house.noted, {})
+        house.day = 8
+        self.assertEqual(house.noted, {})
+        return house
 
-    def test_clear_forgets(self):
-        house = self.house()
-        dealing.buy(house, 0, 0, 300)
-        settings.set_limits(house, 0, [0, 0, 0, 0])
-        house.day = 3
-        self.assertEqual(len(house.noted), 3)
-        settings.clear_house(house)
-        self.assertEqual(shown(house), ({}, {}, 0, [0] * 8))
+    def test_the_calls_that_note(self):
+        calls = [helper.price(1, 2), helper.issuer(7, 3), helper.limits(1), helper.buy(1, 1, 1), helper.sell(1, 1, 1),
+                 helper.subscribe(1, 0, 10), helper.redeem(1, 0, 1), helper.issue(1, 10), helper.cancel(1, 1)]
+        for call in calls:
+            house = self.house()
+            self.assertGreaterEqual(done(house, call)[0], 0, call)
+            self.assertEqual(house.noted, {(0, 1, 0): 8}, call)
+
+    def test_the_calls_that_do_not(self):
+        calls = [helper.thing(5, 5, 5), helper.fund(5, 5, 5), helper.tick(5)] + helper.looked()
+        for call in calls:
+            house = self.house()
+            done(house, call)
+            self.assertEqual(house.noted, {}, call)
+
+    def test_nothing_is_noted_behind_a_refusal(self):
+        calls = [(helper.price(9, 1), -2), (helper.price(0, -1), -1), (helper.issuer(8, 0), -1),
+                 (helper.limits(1, 0, 0, 0, -1), -1), (helper.buy(1, 1, 891), -7), (helper.buy(0, 0, 1), -8),
+                 (helper.sell(1, 1, 11), -5), (helper.subscribe(1, 0, 1000), -7), (helper.subscribe(0, 1, 9), -6),
+                 (helper.redeem(1, 0, 11), -5), (helper.issue(0, 1), -6), (helper.cancel(0, 101), -5),
+                 (helper.cancel(0, 100), -7), (helper.tick(0), -1)]
+        for call, number in calls:
+            house = self.house()
+            before = shown(house)
+            self.assertEqual(done(house, call), [number], call)
+            self.assertEqual(shown(house), before, call)
 
 
 if __name__ == "__main__":
